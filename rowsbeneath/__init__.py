@@ -1,0 +1,1 @@
+"""Rowsbeneath: rows of one machine, done by little rows of another one."""
