@@ -21,7 +21,7 @@ class Table:
 
     def kind_at(self, kind):
         """The number of a kind, by its name."""
-        if not isinstance(kind, str) or kind not in self.kinds:
+        if kind not in self.kinds:
             raise NoKind(kind)
         return self.kinds.index(kind)
 

@@ -131,6 +131,18 @@ class Language(unittest.TestCase):
             if isinstance(node.ctx, ast.Load) and hasattr(builtins, node.id):
                 self.assertIn(node.id, OWN_NAMES, (name, node.lineno))
 
+    def test_names_of_a_files_top(self):
+        for name, tree in TREES.items():
+            tops = [row.name for row in tree.body if isinstance(row, (ast.FunctionDef, ast.ClassDef))]
+            tops += [row.targets[0].id for row in tree.body if isinstance(row, ast.Assign)]
+            drawn = [alias.name for row in tree.body if isinstance(row, ast.ImportFrom) for alias in row.names]
+            self.assertEqual(len(tops + drawn), len(set(tops + drawn)), name)
+            barred = set(drawn) | {row.name for row in tree.body if isinstance(row, ast.ClassDef)}
+            for row in [row for row in ast.walk(tree) if isinstance(row, ast.FunctionDef)]:
+                local = {node.arg for node in ast.walk(row) if isinstance(node, ast.arg)}
+                local |= {node.id for node in ast.walk(row) if isinstance(node, ast.Name) and isinstance(node.ctx, ast.Store)}
+                self.assertEqual(local & barred, set(), (name, row.name))
+
     def test_methods_and_values(self):
         self.assertEqual(given_values() & own_methods(), set())
         for name, node in nodes(ast.Attribute):

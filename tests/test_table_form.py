@@ -164,7 +164,7 @@ class Form(unittest.TestCase):
 
     def test_choices(self):
         body = "{ next }"
-        for deep in range(1, 4):
+        for _ in range(3):
             body = "{ if a " + body + " else { next } }"
             self.stands(with_body(body))
         self.at_last(HEAD + "kind add ( ) { if a { if a { if a { if")
