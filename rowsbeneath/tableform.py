@@ -7,6 +7,7 @@ a name in an expression ("name", name), and behind `go` and `call` stands the fi
 """
 
 from rowsbeneath.errors import NoText
+from rowsbeneath.figures import number_of
 from rowsbeneath.sums import is_name, is_within, ops_told
 
 MOST_TOKENS = 1500
@@ -15,21 +16,9 @@ MOST_FIELDS = 3
 MOST_SETS = 4
 MOST_CHOICES = 3
 MOST_BRACKETS = 3
-# No number that may stand has more figures; so none of thousands of figures is ever reckoned.
-MOST_FIGURES = 8
-FIGURES = "0123456789"
 SORTS = ("place", "mark", "number", "row")
 ENDS = ("next", "go", "call", "back", "stop", "fault")
 OWN_FAULTS = ("deep", "bare")
-
-
-def number_of(token):
-    """The number that a token tells in figures, or None."""
-    if not 1 <= len(token) <= MOST_FIGURES or not all([sign in FIGURES for sign in token]):
-        return None
-    if token[0] == "0" and len(token) > 1:
-        return None
-    return int(token)
 
 
 class Reader:

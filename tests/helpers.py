@@ -40,3 +40,13 @@ def no_text_place(thing):
     """The number that NoText tells, or None where the form is right."""
     told = told_refusal(thing)
     return told[1] if told is not None and told[0] is NoText else None
+
+
+def refuses(case, question, sort, *fields):
+    """Looks that a question is refused, by just this class and with the very things."""
+    refusal = refusal_of(question)
+    case.assertIs(type(refusal), sort, fields)
+    told = tuple(vars(refusal).values())
+    case.assertEqual(len(told), len(fields))
+    for has, wanted in zip(told, fields):
+        case.assertTrue(has is wanted or type(has) is type(wanted) is int and has == wanted, (has, wanted))
