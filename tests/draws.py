@@ -145,3 +145,27 @@ def some_on(source, inner=8, size=400):
         return (sort, source.choice([("next",), ("go", source.randrange(3)), ("call", source.randrange(3)), ("back",),
                                      ("stop",), ("fault", "odd")]))
     return (sort, source.randrange(inner), source.randrange(size), source.randrange(size))
+
+
+def some_e(source, deep):
+    """An expression at most so deep, of whatever table."""
+    if deep == 1 or source.random() < 0.15:
+        sort = source.choice(["number", "field", "place", "place", "mark"])
+        if sort == "number":
+            return (sort, source.choice([0, 2 ** 24 - 1, source.randrange(2 ** 24)]))
+        return (sort, source.randrange(3)) if sort == "field" else (sort, some_sel(source))
+    if source.random() < 0.25:
+        return ("cell", some_e(source, deep - 1))
+    return (source.choice(OPS), some_e(source, deep - 1), some_e(source, deep - 1))
+
+
+def some_sets(source, deep=4, most=4):
+    """Sets of the form of a leaf's, of whatever table."""
+    sets = []
+    for _ in range(source.randint(0, most)):
+        e = some_e(source, source.randint(1, deep))
+        if source.random() < 0.3 and all(given[0] != "cell" for given in sets):
+            sets.append(("cell", some_e(source, source.randint(1, deep)), e))
+        else:
+            sets.append((source.choice(["place", "mark"]), some_sel(source), e))
+    return tuple(sets)

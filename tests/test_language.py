@@ -145,9 +145,89 @@ class Language(unittest.TestCase):
 
     def test_methods_and_values(self):
         self.assertEqual(given_values() & own_methods(), set())
+        known = METHODS | given_values() | own_methods()
         for name, node in nodes(ast.Attribute):
-            known = METHODS | given_values() | own_methods()
             self.assertIn(node.attr, known, (name, node.lineno))
+
+    def test_methods_are_handed_what_they_take(self):
+        takes = {}
+        for _, node in nodes(ast.ClassDef):
+            for row in [row for row in node.body if isinstance(row, ast.FunctionDef) and row.name != "__init__"]:
+                many, free = len(row.args.args) - 1, len(row.args.defaults)
+                takes.setdefault(row.name, set()).update(range(many - free, many + 1))
+        for name, node in nodes(ast.Call):
+            if isinstance(node.func, ast.Attribute) and node.func.attr in takes:
+                self.assertIn(len(node.args) + len(node.keywords), takes[node.func.attr], (name, node.lineno))
+
+    def test_free_names_of_methods_and_values(self):
+        own = {name for sort in (str, int, list, dict, set, bytes, tuple) for name in dir(sort)}
+        self.assertEqual((given_values() | own_methods()) & own - {"__init__"}, set())
+
+    def test_classes_are_called_raised_taken_or_bases(self):
+        classes = {node.name for _, node in nodes(ast.ClassDef)}
+        for name, tree in TREES.items():
+            allowed = set()
+            for node in ast.walk(tree):
+                if isinstance(node, ast.Call):
+                    allowed.add(node.func)
+                    if isinstance(node.func, ast.Name) and node.func.id == "isinstance":
+                        allowed |= set(ast.walk(node.args[1]))
+                elif isinstance(node, ast.ClassDef):
+                    allowed |= set(node.bases)
+                elif isinstance(node, ast.ExceptHandler):
+                    allowed |= set(ast.walk(node.type))
+                elif isinstance(node, ast.Attribute) and node.attr == "__init__":
+                    allowed.add(node.value)
+            for node in ast.walk(tree):
+                if isinstance(node, ast.Name) and node.id in classes:
+                    self.assertIn(node, allowed, (name, node.lineno))
+
+    def test_walked_at_once(self):
+        walkers = ("list", "tuple", "dict", "sorted", "sum", "any", "all", "enumerate", "zip", "min", "max")
+        for name, tree in TREES.items():
+            allowed = set()
+            for node in ast.walk(tree):
+                if isinstance(node, (ast.For, ast.comprehension)):
+                    allowed.add(node.iter)
+                elif isinstance(node, ast.Call) and isinstance(node.func, ast.Name) and node.func.id in walkers and node.args:
+                    allowed.add(node.args[0])
+            for node in ast.walk(tree):
+                called = node.func if isinstance(node, ast.Call) else None
+                if isinstance(called, ast.Name) and called.id in ("zip", "enumerate", "reversed", "range"):
+                    self.assertIn(node, allowed, (name, node.lineno))
+                if isinstance(called, ast.Attribute) and called.attr in ("items", "keys", "values"):
+                    self.assertIn(node, allowed, (name, node.lineno))
+
+    def test_sets_are_sorted_on_the_spot(self):
+        for name, tree in TREES.items():
+            inner = [node.args[0] for node in ast.walk(tree) if isinstance(node, ast.Call) and node.args
+                     and isinstance(node.func, ast.Name) and node.func.id in ("sorted", "len")]
+            for node in ast.walk(tree):
+                if isinstance(node, ast.SetComp) or isinstance(node, ast.Call) and getattr(node.func, "id", "") in ("set", "frozenset"):
+                    self.assertIn(node, inner, (name, node.lineno))
+
+    def test_keywords_at_pythons_own(self):
+        keywords = {"sorted": {"key", "reverse"}, "min": {"key", "default"}, "max": {"key", "default"}, "sum": {"start"},
+                    "enumerate": {"start"}, "zip": {"strict"}}
+        for name, node in nodes(ast.Call):
+            if isinstance(node.func, ast.Name) and hasattr(builtins, node.func.id):
+                told = {keyword.arg for keyword in node.keywords}
+                self.assertLessEqual(told, keywords.get(node.func.id, set()), (name, node.lineno))
+
+    def test_dicts_and_lists_of_a_files_top(self):
+        for name, tree in TREES.items():
+            tops = {row.targets[0].id for row in tree.body if isinstance(row, ast.Assign) and isinstance(row.value, (ast.Dict, ast.List))}
+            allowed = set()
+            for node in ast.walk(tree):
+                if isinstance(node, ast.Subscript) and isinstance(node.ctx, ast.Load):
+                    allowed.add(node.value)
+                elif isinstance(node, ast.Compare):
+                    allowed |= set(node.comparators)
+                elif isinstance(node, ast.Call) and getattr(node.func, "id", "") in ("list", "dict", "len", "sorted"):
+                    allowed |= set(node.args)
+            for node in ast.walk(tree):
+                if isinstance(node, ast.Name) and isinstance(node.ctx, ast.Load) and node.id in tops:
+                    self.assertIn(node, allowed, (name, node.lineno))
 
 
 if __name__ == "__main__":
