@@ -84,10 +84,15 @@ def is_list_to(thing, many, high):
     return all([is_within(number, 0, high) for number in thing])
 
 
-def need_single(table, state, row):
-    """Refuses what is no row, and a state that is not on."""
+def need_row(table, row):
+    """Refuses what is no row that may be done alone."""
     if not is_row(table, row, HIGHEST_ROW):
         raise NoRow(row)
+
+
+def need_single(table, state, row):
+    """Refuses what is no row, and a state that is not on."""
+    need_row(table, row)
     if state.word != "on":
         raise NoState(state)
 
