@@ -1,6 +1,11 @@
-"""What a deed does by the way of a row: its tests, its expressions and its sets."""
+"""Deeds: their leaves, and what they do by the way of a row, tests, expressions and sets."""
 
 from rowsbeneath.sums import reckoned, top_of
+
+
+def leaves_of(deed):
+    """The leaves of a deed, in reading order."""
+    return [deed] if deed[0] == "leaf" else leaves_of(deed[2]) + leaves_of(deed[3])
 
 
 def leaf_of(way, deed):

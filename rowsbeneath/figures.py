@@ -2,7 +2,7 @@
 
 FIGURES = "0123456789"
 # No number that may stand in any text has more figures; so none of thousands of figures is ever reckoned.
-MOST_FIGURES = 8
+MOST_FIGURES = 9
 
 
 def number_of(token):

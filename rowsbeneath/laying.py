@@ -1,5 +1,6 @@
 """Rooms of little rows, made of tables."""
 
+from rowsbeneath.deeds import leaves_of
 from rowsbeneath.errors import Crowded, NoPlaces, NoRoom, NoSize
 from rowsbeneath.leaves import needs_of_sets, steps_of
 from rowsbeneath.little import Little
@@ -28,6 +29,11 @@ class Laying:
         if told not in self.address_of:
             self.address_of[told] = self.put_down(little)
         return self.address_of[told]
+
+    def keep(self, little, address):
+        """Lays a little row at its own address, ahead of all that are laid at free ones."""
+        self.laid[address] = little
+        self.address_of[little.told()] = address
 
     def put_down(self, little):
         """Lays a little row at the least free address, and tells that."""
@@ -146,8 +152,7 @@ def kind_laid(laying, kind, deed):
 
 def need_places(kind, deed, many):
     """Refuses a kind with a leaf that needs more inner places than there are."""
-    if deed[0] == "if":
-        need_places(kind, deed[2], many)
-        need_places(kind, deed[3], many)
-    elif needs_of_sets(deed[1]) > many:
-        raise Crowded(kind, needs_of_sets(deed[1]))
+    for leaf in leaves_of(deed):
+        needed = needs_of_sets(leaf[1])
+        if needed > many:
+            raise Crowded(kind, needed)

@@ -71,6 +71,55 @@ class TableDrawing:
         return f"( {self.e(deep - 1)} {draw.choice(OPS)} {self.e(draw.randint(1, deep - 1))} )"
 
 
+class LongDrawing(TableDrawing):
+    """Draws the text of a table whose rows seldom end a run."""
+
+    def end(self):
+        rows = self.names("row")
+        return self.source.choice(["next"] * 12 + ["back", "stop"] + [f"go {name}" for name in rows] * 6 + [f"call {name}" for name in rows])
+
+
+class PlainDrawing(TableDrawing):
+    """Draws the text of a table whose kinds are plain."""
+
+    def body(self, choices):
+        draw = self.source
+        if choices and draw.random() < 0.7:
+            test = draw.choice(["top " + draw.choice(self.names("place"))] + self.names("place", "mark"))
+            return "{ if " + test + f" {self.body(choices - 1)} else {self.body(choices - 1)} " + "}"
+        sets = []
+        for _ in range(draw.choice([0, 1, 1, 2, 3])):
+            if draw.random() < 0.4 and not any(told.startswith("set [") for told in sets):
+                sets.append(f"set [ {self.single()} ] = {self.sum(3)} ;")
+            elif self.names("mark") and draw.random() < 0.5:
+                sets.append(f"set {draw.choice(self.names('mark'))} = {self.single('mark')} ;")
+            else:
+                sets.append(f"set {draw.choice(self.names('place'))} = {self.sum(3)} ;")
+        return "{ " + " ".join(sets + [self.end()]) + " }"
+
+    def single(self, *sorts):
+        return self.source.choice(self.names("place", "number", *sorts) * 2 + [str(some_word(self.source, self.width))])
+
+    def sum(self, deep):
+        draw = self.source
+        if deep == 1 or draw.random() < 0.2:
+            return self.single("mark") if draw.random() < 0.6 else f"[ {self.single()} ]"
+        if draw.random() < 0.2:
+            return f"( {self.sum(deep - 1)} << {some_word(draw, self.width)} )"
+        return f"( {self.sum(deep - 1)} {draw.choice('+-')} {self.sum(deep - 1)} )"
+
+
+def with_a_kind_drawn_anew(source, drawing, text, choices=2):
+    """(the text of a drawn table with the deed of one kind drawn anew, the name of this kind)."""
+    lines = text.split("\n")
+    at = source.randrange(1, len(lines))
+    head = lines[at][:lines[at].index("{")]
+    told = head[head.index("(") + 1:head.index(")")].strip()
+    drawing.fields = [tuple(field.split()) for field in told.split(" , ")] if told else []
+    lines[at] = head + drawing.body(choices)
+    return "\n".join(lines), head.split()[1]
+
+
 def some_table(source, deep=4, choices=3, kinds=4):
     """A table, of at most as many tokens as may be."""
     text = TableDrawing(source, deep, choices, kinds).text()

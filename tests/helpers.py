@@ -49,4 +49,4 @@ def refuses(case, question, sort, *fields):
     told = tuple(vars(refusal).values())
     case.assertEqual(len(told), len(fields))
     for has, wanted in zip(told, fields):
-        case.assertTrue(has is wanted or type(has) is type(wanted) is int and has == wanted, (has, wanted))
+        case.assertTrue(has is wanted or type(has) is type(wanted) and type(has) in (int, str) and has == wanted, (has, wanted))

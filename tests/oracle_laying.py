@@ -128,9 +128,37 @@ def laid(room, deed, many):
 
 
 def at_or_behind(room, row):
-    if row not in room:
+    """The address of a told little row: where it lies, else in the first hole, else behind all others."""
+    if row not in room and None in room:
+        room[room.index(None)] = row
+    elif row not in room:
         room.append(row)
     return room.index(row)
+
+
+def reached(room, entry):
+    """The addresses to which it can come from an entry."""
+    found, waiting = set(), {entry}
+    while waiting - found:
+        address = (waiting - found).pop()
+        found.add(address)
+        on = room[address][1]
+        waiting |= set(on[1:] if on[0] == "on" else on[2:])
+    return found
+
+
+def changed(room, entries, table, kind, many, size):
+    """The refusal that is due as a tuple, or (the told room, entries), of a room whose kind is changed by a table."""
+    deed = dict((name, deed) for name, _, deed in table.told()[6])[kind]
+    for leaf, _ in leaves(deed):
+        if needs_of_all(leaf[1]) > many:
+            return ("Crowded", kind, needs_of_all(leaf[1]))
+    stays = set().union(*[reached(room, entry) for other, entry in entries.items() if other != kind])
+    new = [row if address in stays else None for address, row in enumerate(room)]
+    entry = laid(new, deed, many)
+    if len(new) > size:
+        return ("NoRoom", kind, len(new) - size)
+    return new, {**entries, kind: entry}
 
 
 def made(table, many, size):
