@@ -15,7 +15,8 @@ FIRST_ROW_TRIED = 10
 
 def parted_by(one, other, kind, chosen, known):
     """A row and a state, led as known tells, behind which the two tables tell unlike states."""
-    free = free_things(one, kind, chosen, known)
+    free = free_things(one, kind, known)
+    # Where effects are unlike one of these always parts the tables: picks_of tells why.
     for picks in picks_of(free):
         given = {(sort, number): words[picks.get(at, 0)] for at, (sort, number, words) in enumerate(free)}
         row = (kind, operands_of(one, kind, chosen, given))
@@ -27,7 +28,7 @@ def parted_by(one, other, kind, chosen, known):
                 return (row, state)
 
 
-def free_things(table, kind, chosen, known):
+def free_things(table, kind, known):
     """All number fields, places and marks, with the words that they may be given."""
     sorts = [sort for name, sort in table.fields_of(kind)]
     told = [("field", j, list(range(WORDS_TRIED))) for j in range(len(sorts)) if sorts[j] == "number"]

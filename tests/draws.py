@@ -1,6 +1,8 @@
 """Drawn things: tables, rows, states, steps, little rows, sets; all of them from a source of chance handed in."""
 
 from rowsbeneath.above import state_of
+from rowsbeneath.errors import RowsError
+from rowsbeneath.laying import made_of
 from rowsbeneath.programs import program_of
 from rowsbeneath.tabletext import read_table
 
@@ -126,6 +128,15 @@ def some_table(source, deep=4, choices=3, kinds=4):
     while len(text.split()) > 1500:
         text = TableDrawing(source, deep, choices, kinds).text()
     return read_table(text)
+
+
+def some_made(source, **bounds):
+    """A made room of a drawn table, big enough."""
+    while True:
+        try:
+            return made_of(some_table(source, **bounds), source.randint(2, 8), 400)
+        except RowsError:
+            continue
 
 
 def some_row(source, table, rows=999, kind=None):

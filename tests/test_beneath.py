@@ -10,9 +10,8 @@ from rowsbeneath.laying import made_of
 from rowsbeneath.programs import program_of, read_program
 from rowsbeneath.tabletext import read_table
 from tests import oracle_beneath
-from tests.draws import some_program, some_word
+from tests.draws import some_made, some_program, some_word
 from tests.helpers import ODD_THINGS, refuses
-from tests.test_papers import some_made
 
 TEXT = """word 8 ; cells 5 ; depth 2 ; places a b ; marks m ; gate GATE ;
 kind add ( p place , n number ) { set p = ( p + n ) ; next }

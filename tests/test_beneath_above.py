@@ -9,9 +9,8 @@ from rowsbeneath.errors import RowsError
 from rowsbeneath.laying import made_of
 from rowsbeneath.programs import program_of, same_shape
 from rowsbeneath.tabletext import read_table, show_table
-from tests.draws import some_program, some_word
+from tests.draws import some_made, some_program, some_word
 from tests.oracle_above import seen_behind
-from tests.test_papers import some_made
 
 
 def above_behind(table, program, cells, seen, changes=()):

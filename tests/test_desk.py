@@ -12,7 +12,7 @@ from rowsbeneath.errors import (BadLine, Crowded, NoBudget, NoChange, NoFit, NoK
                                 NoText, NotPlain, RowsError, Twice, Unlike, Within)
 from rowsbeneath.laying import made_of
 from rowsbeneath.papers import paper_of
-from rowsbeneath.programs import read_program, show_program
+from rowsbeneath.programs import show_program
 from rowsbeneath.spans import span_of
 from rowsbeneath.tabletext import read_table, show_table
 from tests.draws import TableDrawing, some_program, some_row, some_word, with_a_kind_drawn_anew

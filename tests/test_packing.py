@@ -4,7 +4,6 @@ import itertools
 import random
 import unittest
 
-from rowsbeneath.above import state_of
 from rowsbeneath.little import Little, fits, row_beneath
 from rowsbeneath.packing import chain_of, is_chain, is_packing, meets, packed
 from rowsbeneath.steps import step_of

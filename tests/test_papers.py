@@ -5,28 +5,19 @@ import unittest
 
 from rowsbeneath.above import row_done
 from rowsbeneath.checker import lets_by
-from rowsbeneath.errors import NoKind, RowsError
+from rowsbeneath.errors import NoKind
 from rowsbeneath.laying import made_of
 from rowsbeneath.little import little_of, row_beneath
 from rowsbeneath.papers import paper_of
 from rowsbeneath.tabletext import read_table
 from tests import oracle_papers
-from tests.draws import some_row, some_state, some_table, some_word
+from tests.draws import some_made, some_row, some_state, some_word
 from tests.helpers import ODD_THINGS, refuses
 from tests.test_checker import shaken
 
 HEAD = "word 8 ; cells 5 ; depth 1 ; places a b ; marks m ; gate ; "
 A, B, M = ("place", ("is", 0)), ("place", ("is", 1)), ("mark", ("is", 0))
 X = ("field", 0)
-
-
-def some_made(source, **bounds):
-    """A made room of a drawn table, big enough."""
-    while True:
-        try:
-            return made_of(some_table(source, **bounds), source.randint(2, 8), 400)
-        except RowsError:
-            continue
 
 
 class ToldPapers(unittest.TestCase):

@@ -12,9 +12,8 @@ from rowsbeneath.little import row_beneath
 from rowsbeneath.programs import program_of
 from rowsbeneath.spans import budget_for, span_of, spans_of, ways_of
 from rowsbeneath.tabletext import read_table
-from tests.draws import some_program, some_row, some_state, some_table
+from tests.draws import some_made, some_program, some_row, some_state, some_table
 from tests.helpers import ODD_THINGS, refuses
-from tests.test_papers import some_made
 from tests.test_room_rows import leaf_number
 
 HEAD = "word 4 ; cells 4 ; depth 1 ; places a b ; marks m n ; gate ; "
